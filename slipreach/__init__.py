@@ -1,0 +1,1 @@
+"""Slipreach: how far one slip in a settings file reaches."""
