@@ -1,7 +1,7 @@
 """Cases: one slip in one file, and the shapes of which it is an instance."""
 
 from slipreach.errors import Unreadable
-from slipreach.fillings import entry_fillings, filled_entries, is_filling, joined_fillings, keeps
+from slipreach.fillings import entry_fillings, filled_entries, is_filling, keeps
 from slipreach.reader import entries_by, read, role_of, spans_of, states
 from slipreach.tokens import is_sign, sort_of
 
@@ -55,9 +55,9 @@ class Case:
         return [{shape.token: self.slip.token}] if is_filling(shape.token, self.slip.token) else []
 
     def has_after(self, shape, filling, first, behind):
-        """Whether the slipped file has the entries that a shape tells."""
-        if shape.after is None or self.slipped is None:
-            return shape.after is None and self.slipped is None
+        """Whether the slipped file has the entries that a shape tells, or both have none."""
+        if shape.after is None:
+            return True
         changed = filled_entries(shape.after, filling)
         return self.slipped == [*self.entries[:first], *changed, *self.entries[behind:]]
 
@@ -73,8 +73,7 @@ class Case:
             return None
         written = self.token_fillings(shape)
         fillings = entry_fillings(shape.before, self.entries[first:behind]) if written else []
-        for filling in [both for one in fillings for other in written
-                        for both in joined_fillings(one, other)]:
+        for filling in [{**one, **other} for one in fillings for other in written]:
             if keeps(filling, shape.fixed, shape.unlike):
                 if self.has_after(shape, filling, first, behind):
                     return filling

@@ -36,32 +36,15 @@ def filled_entries(entries, filling):
     return [(filling[name], filled_value(value, filling)) for name, value in entries]
 
 
-def joined_fillings(one, other):
-    """The filling with the symbols of both in a list, or no filling if they contradict."""
-    if any([symbol in other and other[symbol] != one[symbol] for symbol in one]):
-        return []
-    return [{**one, **other}]
-
-
-def bound(symbols, tokens):
-    """The filling that gives each of some symbols its token, in a list, or no filling."""
-    fillings = [{}]
-    for symbol, token in zip(symbols, tokens):
-        fillings = [filling for known in fillings for filling in joined_fillings(known, {symbol: token})]
-    return fillings
-
-
 def items_bound(parts, members):
-    """The filling that gives parts without head and tail as many items, in a list."""
-    fillings = [{}]
+    """The filling that gives parts without head and tail as many items, in a list, or none."""
+    filling = {}
     for part, member in zip(parts, members):
         words = member.split(" ")
         if len(words) != len(part) - 1:
             return []
-        news = bound(part[1:], words)
-        fillings = [filling for known in fillings for new in news
-                    for filling in joined_fillings(known, new)]
-    return fillings
+        filling.update({symbol: word for symbol, word in zip(part[1:], words)})
+    return [filling]
 
 
 def split_list(parts, members, ahead, behind):
@@ -103,13 +86,14 @@ def value_fillings(value, wanted):
 
 
 def entry_fillings(entries, wanted):
-    """All fillings that make shape entries these entries, of which there are as many."""
+    """All fillings that make shape entries these entries, of which there are as many.
+
+    No symbol stands twice in the entries before a slip, so the fillings of two of them agree.
+    """
     fillings = [{}]
     for (name, value), (word, worth) in zip(entries, wanted):
-        news = [new for filling in value_fillings(value, worth)
-                for new in joined_fillings({name: word}, filling)]
-        fillings = [filling for known in fillings for new in news
-                    for filling in joined_fillings(known, new)]
+        news = [{name: word, **filling} for filling in value_fillings(value, worth)]
+        fillings = [{**known, **new} for known in fillings for new in news]
     return fillings
 
 

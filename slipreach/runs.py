@@ -7,9 +7,7 @@ FAULTS = (("wrong",), ("doubled",))
 
 
 def come_of(schema, name, seen, value):
-    """What comes of a seen, or of a fault, by one entry."""
-    if seen in FAULTS:
-        return seen
+    """What comes of a seen by one entry."""
     try:
         return met(schema, name, seen, value)
     except WrongKind:

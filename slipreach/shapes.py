@@ -17,8 +17,7 @@ def by_number(symbols, letter):
 
 def token_symbols(text, token):
     """The symbols w.. and n.. of a text and a written token, ascending."""
-    row = [symbol for symbol in [*text, token] if symbol is not None]
-    symbols = [symbol for symbol in row if not is_sign(symbol) and symbol not in ITEMS]
+    symbols = [symbol for symbol in [*text, token] if symbol is not None]
     return (*by_number(symbols, "w"), *by_number(symbols, "n"))
 
 

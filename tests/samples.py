@@ -49,6 +49,11 @@ def some_file(chance, language, least):
 
 def all_files(language, most, words, numerals):
     """Every readable file of at most so many tokens out of some words and numerals."""
+    return files_of(language, most, lambda sort, at: {"word": words, "number": numerals}.get(sort, [sort]))
+
+
+def files_of(language, most, choices):
+    """Every readable file of at most so many tokens, each one of the choices for its sort and index."""
     rows = [((), "start")]
     for count in range(most + 1):
         for file, state in rows:
@@ -57,7 +62,7 @@ def all_files(language, most, words, numerals):
         if count < most:
             rows = [(file + (token,), language.step(state, sort))
                     for file, state in rows for sort in language.next_sorts(state) if sort != "end"
-                    for token in (words if sort == "word" else numerals if sort == "number" else [sort])]
+                    for token in choices(sort, count)]
 
 
 def some_items(chance, language):

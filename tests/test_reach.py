@@ -1,8 +1,8 @@
 import random
 import unittest
 
-from samples import NUMERALS, RULE_WORDS, SIGNS, WORDS, all_files, all_languages, read_or_none, some_file
-from samples import some_languages
+from samples import NUMERALS, RULE_WORDS, SIGNS, WORDS, all_files, all_languages, files_of, read_or_none
+from samples import some_file, some_languages
 from slipreach.errors import Unreadable
 from slipreach.language import Language
 from slipreach.reach import Reach, reach
@@ -26,15 +26,7 @@ def changed(language, file, slip):
 
 def unlike_files(language, most):
     """Every readable file of at most so many tokens, with unlike words and numerals."""
-    rows = [((), "start")]
-    for count in range(most + 1):
-        for file, state in rows:
-            if language.closes(state):
-                yield list(file)
-        if count < most:
-            rows = [((*file, {"word": UNLIKE[count], "number": str(count)}.get(sort, sort)),
-                     language.step(state, sort))
-                    for file, state in rows for sort in language.next_sorts(state) if sort != "end"]
+    return files_of(language, most, lambda sort, at: [{"word": UNLIKE[at], "number": str(at)}.get(sort, sort)])
 
 
 def slips_with_looks(rule, file):
@@ -164,6 +156,14 @@ class Shapes(unittest.TestCase):
         self.assertIsNotNone(found.find(tuple(file), Slip("written", 0, "b")))
         free = reach(Language(equals="may", end="may", bare=True), SlipRule("left"))
         self.assertIsNone(free.find(["a"], Slip("left", 0)))
+
+    def test_an_instance_that_the_rule_does_not_allow(self):
+        language = Language()
+        found = reach(language, SlipRule(looks=[("a", "=")]))
+        file, slip = tokens("n = [ a , x , a ] ;"), Slip("written", 5, "=")
+        fillings = [instance(language, shape, file, slip) for shape in found.shapes]
+        self.assertTrue(any(filling is not None for filling in fillings))
+        self.assertIsNone(found.find(file, slip))
 
     def test_unreadable_files(self):
         found = reach(Language(), SlipRule("left"))

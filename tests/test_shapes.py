@@ -157,6 +157,9 @@ class FormOfShapes(unittest.TestCase):
         used = {symbol for symbol in [*shape.text, shape.token] if symbol not in [*SIGNS, None]}
         edges = ["head"] * shape.has_head + ["tail"] * shape.has_tail
         self.assertEqual(used, {*shape.symbols, *edges})
+        texts = [symbol for symbol in shape.text if symbol not in SIGNS]
+        self.assertEqual(len(set(texts)), len(texts))
+        self.assertNotIn(shape.token, texts)
         self.assertTrue(set(shape.fixed) <= set(shape.symbols))
         self.assertTrue({symbol for pair in shape.unlike for symbol in pair} <= set(shape.symbols))
         for name, value in [*shape.before, *(shape.after or ())]:
@@ -234,6 +237,10 @@ class Placed(unittest.TestCase):
                 self.assertTrue(is_instance(language, shape, file, slip, other))
                 if shape.joint:
                     self.assertNotEqual(file[slip.at - 1 - shape.at], ";")
+                    parted = [*file[:slip.at], ";", *file[slip.at:]]
+                    self.assertEqual(read(language, parted), read(language, file))
+                    other = Slip(slip.kind, slip.at + 1, slip.token)
+                    self.assertIsNone(instance(language, shape, parted, other))
         self.assertGreater(joints, 20)
 
     def test_not_placed(self):

@@ -61,6 +61,11 @@ class Done(unittest.TestCase):
         self.assertEqual(self.done("written", 0, "b"), "b = b ; ;")
         self.assertEqual(self.done("written", 4, "12"), "a = b ; 12")
 
+    def test_last_two_tokens_swapped(self):
+        self.assertIs(Slip("swapped", 1).fits(["a", "b", "c"]), True)
+        self.assertEqual(Slip("swapped", 1)(["a", "b", "c"]), ["a", "c", "b"])
+        self.assertEqual(Slip("swapped", 0)(["a", "b"]), ["b", "a"])
+
     def test_no_places(self):
         for slip in [Slip("left", 5), Slip("doubled", 5), Slip("swapped", 4), Slip("swapped", 3), Slip("swapped", 9),
                      Slip("written", 5, "a"), Slip("written", 2, "b"), Slip("written", 4, ";"), Slip("left", 99)]:
@@ -81,6 +86,9 @@ class Trimmed(unittest.TestCase):
         self.assertEqual(trimmed([1, 2, 3], [1, 9, 3]), ([2], [9]))
         self.assertEqual(trimmed([1, 2, 3], [1, 3]), ([2], []))
         self.assertEqual(trimmed([], [1]), ([], [1]))
+        self.assertEqual(trimmed([1, 2, 3, 4, 5], [9, 3, 4, 5]), ([1, 2], [9]))
+        self.assertEqual(trimmed([1, 2, 3, 4, 5], [1, 2, 7, 3, 5]), ([3, 4], [7, 3]))
+        self.assertEqual(trimmed([1, 2, 3, 4], [0, 2, 5, 4]), ([1, 2, 3], [0, 2, 5]))
         self.assertEqual(trimmed([1, 2], [3, 4, 5]), ([1, 2], [3, 4, 5]))
         self.assertEqual(trimmed([("a", None), [1]], [("a", None), [2]]), ([[1]], [[2]]))
 
