@@ -50,17 +50,17 @@ class Draft:
     """A ripe trace with its symbols counted anew: a shape whose sides are not settled."""
 
     def __init__(self, trace):
-        start = trace.start
-        names = new_names(trace.first[1], start.token)
-        self.at = start.at
-        self.slip = (start.kind, start.role, names.get(start.token, start.token))
+        origin = trace.origin
+        names = new_names(trace.first[1], origin.token)
+        self.at = origin.at
+        self.slip = (origin.kind, origin.role, names.get(origin.token, origin.token))
         self.before = renamed_entries(trace.first[1], names)
-        self.owner = start.owner
+        self.owner = origin.owner
         self.after = None if trace.second is None else renamed_entries(trace.second[1], names)
-        self.unlike = tuple([(names[one], names[other]) for one, other in start.unlike])
-        self.fixed = {names[symbol]: start.fixed[symbol] for symbol in start.fixed}
+        self.unlike = tuple([(names[one], names[other]) for one, other in origin.unlike])
+        self.fixed = {names[symbol]: origin.fixed[symbol] for symbol in origin.fixed}
         self.text = tuple([names.get(symbol, symbol) for symbol in trace.text])
-        self.ahead = "joint" if start.context.joint else start.context.ahead
+        self.ahead = "joint" if origin.context.joint else origin.context.ahead
 
     def change(self):
         """What the draft tells of the slip and the entries, as a key."""

@@ -39,7 +39,7 @@ def all_places(language):
 def with_end(language, trace, sorts):
     """A trace with new symbols of some sorts behind."""
     for sort in sorts:
-        symbol = new_symbol(sort, trace.start.used(trace.text))
+        symbol = new_symbol(sort, trace.origin.used(trace.text))
         trace = trace.grown(language, (symbol,))
     return trace
 
@@ -93,14 +93,14 @@ def fresh_tokens(symbols, used):
 
 def told(trace):
     """The file and the slip of a trace, with unlike tokens wherever this is possible."""
-    start = trace.start
-    row = [*trace.text, start.token] if start.kind == "written" else [*trace.text]
-    free = [symbol for symbol in row if not is_sign(symbol) and symbol not in start.fixed]
-    fixed = [start.fixed[symbol] for symbol in start.fixed]
+    origin = trace.origin
+    row = [*trace.text, origin.token] if origin.kind == "written" else [*trace.text]
+    free = [symbol for symbol in row if not is_sign(symbol) and symbol not in origin.fixed]
+    fixed = [origin.fixed[symbol] for symbol in origin.fixed]
     chosen = fresh_tokens(list({symbol: True for symbol in free}), ["yes", *fixed])
-    tokens = {**chosen, **start.fixed}
+    tokens = {**chosen, **origin.fixed}
     file = [tokens.get(symbol, symbol) for symbol in trace.text]
-    return file, Slip(start.kind, start.at, tokens.get(start.token, start.token))
+    return file, Slip(origin.kind, origin.at, tokens.get(origin.token, origin.token))
 
 
 def shows_far(language, file, slip):

@@ -92,12 +92,12 @@ def complete_ways(language, state, used):
 
 def without_second(trace):
     """A trace whose slipped reading has come to nothing."""
-    return Trace(trace.start, trace.text, trace.first, None)
+    return Trace(trace.origin, trace.text, trace.first, None)
 
 
 def completed(language, trace):
     """The traces in which the last entry is completed in each way."""
-    used = trace.start.used(trace.text)
+    used = trace.origin.used(trace.text)
     ways = complete_ways(language, trace.first[0], used)
     return [trace.grown(language, way) for way in ways]
 
@@ -115,7 +115,7 @@ class Growth:
 
     def children(self, trace):
         """The traces with one symbol more."""
-        used = trace.start.used(trace.text)
+        used = trace.origin.used(trace.text)
         symbols = next_symbols(self.language, trace.first[0], used)
         return [trace.grown(self.language, (symbol,)) for symbol in symbols]
 

@@ -8,8 +8,8 @@ from slipreach.tokens import SIGNS, SORTS, is_sign, sort_of
 class Trace:
     """A row of symbols with a slip in it, and where both readings are behind it."""
 
-    def __init__(self, start, text, first, second):
-        self.start = start
+    def __init__(self, origin, text, first, second):
+        self.origin = origin
         self.text = text
         self.first = first
         self.second = second
@@ -18,10 +18,10 @@ class Trace:
         """The trace with some more symbols behind, which are the same in both readings."""
         first = went_through(language, self.first, symbols)
         second = went_through(language, self.second, symbols)
-        return Trace(self.start, (*self.text, *symbols), first, second)
+        return Trace(self.origin, (*self.text, *symbols), first, second)
 
 
-class Start:
+class Origin:
     """A slip in its text: all that stays when a trace grows."""
 
     def __init__(self, place, kind, token, unlike, fixed):
@@ -69,15 +69,15 @@ def next_symbols(language, state, used):
 
 def left_trace(place):
     """The trace in which the symbol is left out."""
-    start = Start(place, "left", None, (), {})
-    return Trace(start, place.text, place.first, place.context.reading)
+    origin = Origin(place, "left", None, (), {})
+    return Trace(origin, place.text, place.first, place.context.reading)
 
 
 def doubled_trace(language, place):
     """The trace in which the symbol stands twice."""
-    start = Start(place, "doubled", None, (), {})
+    origin = Origin(place, "doubled", None, (), {})
     second = went_on(language, place.first, place.symbol)
-    return Trace(start, place.text, place.first, second)
+    return Trace(origin, place.text, place.first, second)
 
 
 def swapped_traces(language, place):
@@ -88,27 +88,27 @@ def swapped_traces(language, place):
             continue
         alike = symbol_sort(symbol) == symbol_sort(place.symbol)
         unlike = ((place.symbol, symbol),) if alike else ()
-        start = Start(place, "swapped", None, unlike, {})
+        origin = Origin(place, "swapped", None, unlike, {})
         first = went_on(language, place.first, symbol)
         second = went_through(language, place.context.reading, (symbol, place.symbol))
-        traces.append(Trace(start, (*place.text, symbol), first, second))
+        traces.append(Trace(origin, (*place.text, symbol), first, second))
     return traces
 
 
-def written_starts(rule, place):
-    """The starts of all ways to write another token for the symbol."""
+def written_origins(rule, place):
+    """The origins of all ways to write another token for the symbol."""
     sort = symbol_sort(place.symbol)
-    starts = []
+    origins = []
     if is_sign(place.symbol):
         if "sign" in rule:
-            starts = [Start(place, "written", sign, (), {}) for sign in SIGNS if sign != place.symbol]
+            origins = [Origin(place, "written", sign, (), {}) for sign in SIGNS if sign != place.symbol]
     elif sort in rule:
         token = new_symbol(sort, place.text)
-        starts = [Start(place, "written", token, ((place.symbol, token),), {})]
+        origins = [Origin(place, "written", token, ((place.symbol, token),), {})]
     for look in rule.looks:
         if is_new_look(rule, look) and fits_symbol(look[0], place.symbol):
-            starts.append(look_start(place, look))
-    return starts
+            origins.append(look_origin(place, look))
+    return origins
 
 
 def is_new_look(rule, look):
@@ -123,14 +123,14 @@ def fits_symbol(token, symbol):
     return sort_of(token) == symbol_sort(symbol)
 
 
-def look_start(place, look):
-    """The start of a look, with symbols fixed to its tokens."""
+def look_origin(place, look):
+    """The origin of a look, with symbols fixed to its tokens."""
     old, written = look
     fixed = {} if is_sign(old) else {place.symbol: old}
     token = new_symbol(sort_of(written), place.text)
     if not is_sign(written):
         fixed[token] = written
-    return Start(place, "written", token, (), fixed)
+    return Origin(place, "written", token, (), fixed)
 
 
 def slip_traces(language, rule, place):
@@ -142,7 +142,7 @@ def slip_traces(language, rule, place):
         traces.append(doubled_trace(language, place))
     if "swapped" in rule:
         traces.extend(swapped_traces(language, place))
-    for start in written_starts(rule, place):
-        second = went_on(language, place.context.reading, start.token)
-        traces.append(Trace(start, place.text, place.first, second))
+    for origin in written_origins(rule, place):
+        second = went_on(language, place.context.reading, origin.token)
+        traces.append(Trace(origin, place.text, place.first, second))
     return traces
