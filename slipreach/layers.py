@@ -71,26 +71,28 @@ def seen_at(checks, layer, name):
     return layer_seen(checks[layer], name)
 
 
-def below_top(schema, checks, name):
-    """The below behind the top layer. Raises BadLayers, NoSetting."""
-    check_layers(checks)
-    schema.setting(name)
+def seens_of(checks, name):
+    """The seens of all layers, a list."""
+    return [layer_seen(check, name) for check in checks]
+
+
+def below_of(schema, name, seens):
+    """The below behind the last one of some seens."""
     below = ()
-    for check in checks:
-        below = over(schema, name, below, layer_seen(check, name))
+    for seen in seens:
+        below = over(schema, name, below, seen)
     return below
 
 
-def joined_value(schema, checks, name):
-    """What `finished` returns or raises for one name."""
-    below = below_top(schema, checks, name)
-    return finished(schema, name, below, layer_seen(checks[-1], name))
+def value_of_seens(schema, name, seens):
+    """What `finished` returns or raises for the seens of all layers."""
+    return finished(schema, name, below_of(schema, name, seens), seens[-1])
 
 
-def outcome(schema, checks, name):
-    """The outcome of a name. Raises BadLayers, NoSetting."""
+def outcome_of_seens(schema, name, seens):
+    """The outcome of a name that has these seens in all layers."""
     try:
-        value = joined_value(schema, checks, name)
+        value = value_of_seens(schema, name, seens)
     except TopLacking:
         return ("top lacking",)
     except Lacking:
@@ -100,12 +102,29 @@ def outcome(schema, checks, name):
     return ("absent",) if value == () else ("value", value[0])
 
 
+def named_seens(schema, checks, name):
+    """The seens of all layers for a name. Raises BadLayers, NoSetting."""
+    check_layers(checks)
+    schema.setting(name)
+    return seens_of(checks, name)
+
+
+def below_top(schema, checks, name):
+    """The below behind the top layer. Raises BadLayers, NoSetting."""
+    return below_of(schema, name, named_seens(schema, checks, name))
+
+
+def outcome(schema, checks, name):
+    """The outcome of a name. Raises BadLayers, NoSetting."""
+    return outcome_of_seens(schema, name, named_seens(schema, checks, name))
+
+
 def joined(schema, checks):
     """The settings, a dict in the order of the schema. Raises BadLayers and those of 4.3."""
     check_layers(checks)
     settings = {}
     for name in schema.names:
-        value = joined_value(schema, checks, name)
+        value = value_of_seens(schema, name, seens_of(checks, name))
         if value != ():
             settings[name] = value[0]
     return settings

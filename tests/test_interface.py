@@ -22,6 +22,26 @@ FUNCTIONS = {
                "below_top(schema, checks, name)", "outcome(schema, checks, name)", "joined(schema, checks)",
                "changed_names(schema, checks, others)"],
     "lifts": ["lift_above(schema, checks, layer, name)"],
+    "whys": ["why(schema, checks, name)", "trail(schema, checks, name)", "telling_value(schema, checks, layer, entry)",
+             "carriers(schema, checks, name)"],
+    "changes": ["is_masked(schema, checks, layer, name)", "least_entries(schema, checks, layer, name, wanted)"],
+    "editions": ["reused(edition)"],
+    "leadover": ["lead(language, edition, files)"],
+    "paths": ["parting_files(language, layers, first, second)", "blurred_files(language, layers, path)",
+              "still_fault(language, layers, edition)"],
+    "rowkinds": ["fresh_words(words, count)", "kind_rows(table, words, numbers, *, pairs=False)",
+                 "same_kind(table, words, numbers, one, other, *, pairs=False)",
+                 "value_spots(table, row, words, numbers)"],
+    "steps": ["written_words(builder)", "written_numbers(builder)"],
+    "conducts": ["conduct(builder, row, name, items)", "closure(builder, row, name, spots, *, most=60)"],
+    "sliplists": ["items_of(parts, words, head, tail)",
+                  "list_pairs(builder, row, name, spots, before, after, *, unlike=(), fixed=None)"],
+    "conditions": ["parting(first, second)"],
+    "deeds": ["attempt(store, deeds, *, most=None)", "preview_count(store, deeds, *, most=None)",
+              "attempted(store, step, *, most=None, tried=False)"],
+    "house": ["stage(error)", "weight(house, files)"],
+    "playing": ["parted(first, second)", "played(house, files, layer, slip)",
+                "fate_beside(house, files, layer, slip, row)", "place_of(house, files, layer, slip)"],
 }
 
 CLASSES = {
@@ -50,7 +70,46 @@ CLASSES = {
                  "__eq__(self, other)"],
     "lifts.Lift": ["of_seen(cls, schema, name, seen)", "__call__(self, below)", "__add__(self, other)",
                    "__eq__(self, other)"],
+    "moves.Move": [],
+    "moves.Rename": ["__init__(self, old, new, *, kept=True)", "applied(self, schema)", "__eq__(self, other)"],
+    "moves.Drop": ["__init__(self, name)", "applied(self, schema)", "__eq__(self, other)"],
+    "moves.Add": ["__init__(self, setting)", "applied(self, schema)", "__eq__(self, other)"],
+    "moves.Preset": ["__init__(self, name, default)", "applied(self, schema)", "__eq__(self, other)"],
+    "moves.Wrap": ["__init__(self, name)", "applied(self, schema)", "__eq__(self, other)"],
+    "moves.Split": ["__init__(self, name, other)", "applied(self, schema)", "__eq__(self, other)"],
+    "editions.Edition": ["__init__(self, elder, moves)", "direct(cls, elder, later)", "__rshift__(self, other)",
+                         "source(self, name)", "is_wrapped(self, name)", "targets(self, name)", "moved(self, settings)",
+                         "__eq__(self, other)"],
+    "leadover.Lead": [],
+    "paths.Path": ["__init__(self, editions)", "__iter__(self)", "__len__(self)", "__getitem__(self, at)",
+                   "moved(self, settings)", "led(self, language, files)", "__rshift__(self, other)"],
+    "rowkinds.Table": ["__init__(self, words=(), numbers=())", "__contains__(self, x)", "__eq__(self, other)"],
+    "conduct.Conduct": ["meets(self, column)", "result(self, number, start)", "__add__(self, other)",
+                        "__eq__(self, other)"],
+    "steps.BuilderText": ["__init__(self, text, table, kinds)", "__eq__(self, other)", "outcome(self, row, values)",
+                          "lines_run(self, values)"],
+    "sliplists.ListPair": [],
+    "conditions.Condition": ["every(cls, table)", "none(cls, table)", "test(cls, table, column, sign, wanted)",
+                             "value(self, row)", "takes(self, row)", "__contains__(self, x)", "__bool__(self)",
+                             "__eq__(self, other)", "__and__(self, other)", "__rand__(self, other)",
+                             "__iand__(self, other)", "__or__(self, other)", "__ror__(self, other)",
+                             "__ior__(self, other)", "__invert__(self)", "tested_words(self)", "tested_numbers(self)"],
+    "builder.Builder": ["__init__(self, text, table, kinds)", "__call__(self, settings)"],
+    "deeds.Deed": ["__init__(self, condition)", "takes(self, row)", "becomes(self, row)"],
+    "deeds.Delete": ["__init__(self, condition)", "becomes(self, row)"],
+    "deeds.Change": ["__init__(self, condition, changes)", "becomes(self, row)"],
+    "deeds.Store": ["__init__(self, table, rows)", "__len__(self)", "listed(self)", "__contains__(self, x)",
+                    "counted(self, condition)", "do(self, deed, *, most=None)"],
+    "deeds.Trial": ["__init__(self, store, most=None, *, tried=False)", "__enter__(self)",
+                    "__exit__(self, kind, value, trace)", "do(self, deed)"],
+    "house.House": ["__init__(self, language, schema, builder, *, layers=1)", "run(self, files)"],
+    "house.Plan": ["__getitem__(self, at)", "__contains__(self, x)"],
+    "playing.Played": [],
 }
+
+BASES = {"moves.Rename": "Move", "moves.Drop": "Move", "moves.Add": "Move", "moves.Preset": "Move",
+         "moves.Wrap": "Move",
+         "moves.Split": "Move", "builder.Builder": "BuilderText", "deeds.Delete": "Deed", "deeds.Change": "Deed"}
 
 
 def told(function):
@@ -70,13 +129,18 @@ class Interface(unittest.TestCase):
         for place, rows in CLASSES.items():
             name, _, word = place.partition(".")
             kind = getattr(importlib.import_module(f"slipreach.{name}"), word)
-            self.assertEqual((kind.__module__, kind.__bases__), (f"slipreach.{name}", (object,)))
+            self.assertEqual(kind.__module__, f"slipreach.{name}")
+            self.assertEqual([base.__name__ for base in kind.__bases__], [BASES.get(place, "object")])
             for row in rows:
                 self.assertEqual(told(vars(kind)[row.partition("(")[0]]), row)
 
     def test_special_methods(self):
         kinds = {"rules.SlipRule.every": staticmethod, "runs.Run.over_values": classmethod,
-                 "lifts.Lift.of_seen": classmethod, "checking.Checked.worths": property}
+                 "lifts.Lift.of_seen": classmethod, "checking.Checked.worths": property,
+                 "editions.Edition.direct": classmethod, "paths.Path.whole": property,
+                 "conditions.Condition.every": classmethod, "conditions.Condition.none": classmethod,
+                 "conditions.Condition.test": classmethod, "conditions.Condition.blank": property,
+                 "house.Plan.settings": property}
         for place, kind in kinds.items():
             name, word, method = place.split(".")
             owner = getattr(importlib.import_module(f"slipreach.{name}"), word)
