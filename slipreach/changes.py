@@ -39,7 +39,7 @@ def inner_list(schema, checks, layer, name, wanted):
 
 def rows_for(schema, checks, layer, name, wanted):
     """Rows of values of which the first one that brings a wanted thing about is the least."""
-    if wanted == () or wanted[0] is None:
+    if wanted == ():
         return [[], [None]]
     value = wanted[0]
     if schema.setting(name).kind == "list":

@@ -98,7 +98,7 @@ class Edition:
         later = {}
         for setting in self.later:
             source, is_wrapped = self.origins[setting.name]
-            if source is not None and source in settings:
+            if source in settings:
                 later[setting.name] = led_value(settings[source], is_wrapped)
             elif setting.default is not None:
                 later[setting.name] = setting.default

@@ -22,15 +22,15 @@ def spoken_words(edition, source, target):
     both = [word for word in olds if word in news]
     lost = [word for word in olds if word not in news]
     strange = [word for word in lost if edition.later.called(word) is None]
-    found = [word for word in news if word not in olds and edition.elder.called(word) is None]
+    # No word is reused, so the elder schema does not know these.
+    found = [word for word in news if word not in olds]
     # Where words are refused, one that is no longer known matters more than one of another target.
     return first_words([both, [*strange, *lost], found])
 
 
-def tried_values(language, edition, source, target):
+def tried_values(edition, source, target):
     """Values of each sort: those that tell whether a source or a target matters, and others."""
-    values = [None] if language.nothing else []
-    values.extend([0, "a", "b", ("a",), ("b",)])
+    values = [0, "a", "b", ("a",), ("b",)]
     for schema, name in ((edition.elder, source), (edition.later, target)):
         told = [] if name is None else told_values(schema.setting(name))[1:]
         values.extend([value for value in told if value not in values])
@@ -43,7 +43,7 @@ def couples(edition):
     return [*pairs, *[(name, None) for name in edition.elder.names if not edition.targets(name)]]
 
 
-def suspects(language, edition):
+def suspects(edition):
     """Yields rows of entries of which one is taken wrongly if any files are.
 
     Whether a later setting is right depends on the entries of its words and of those of its
@@ -52,7 +52,7 @@ def suspects(language, edition):
     """
     for source, target in couples(edition):
         letters = [(word, value) for word in spoken_words(edition, source, target)
-                   for value in tried_values(language, edition, source, target)]
+                   for value in tried_values(edition, source, target)]
         rows = [[], *[[letter] for letter in letters]]
         rows.extend([[one, other] for one in letters for other in letters])
         base = base_row(edition.elder, [source])

@@ -30,7 +30,7 @@ def number_kind(numbers, number):
     """A tuple that is equal for two integers exactly if they are of one kind beside some numbers."""
     if number in with_zero(numbers):
         return ("told", number)
-    first, last = [gap for gap in gaps(numbers) if gap[0] <= number and (gap[1] is None or number <= gap[1])][0]
+    first, last = [gap for gap in gaps(numbers) if gap[1] is None or number <= gap[1]][0]
     return ("gap", first, number == first, number == last)
 
 

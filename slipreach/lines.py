@@ -23,7 +23,7 @@ def split_line(text):
 
 def quoted(token):
     """The word value in quotes that a token is, or None."""
-    if len(token) < 3 or token[0] != "'" or token[-1] != "'":
+    if token[0] != "'" or token[-1] != "'":
         return None
     inner = token[1:-1]
     value = inner.replace("_", " ")

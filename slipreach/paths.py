@@ -115,7 +115,7 @@ def still_fault(language, layers, edition):
     words = reused(edition)
     if words:
         raise Reused(words[0])
-    for row in suspects(language, edition):
+    for row in suspects(edition):
         settings = settings_of(edition.elder, row)
         if settings is not None and settings_of(edition.later, row) != edition.moved(settings):
             return files_of(language, layers, row)

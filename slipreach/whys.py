@@ -59,9 +59,8 @@ def value_layers(rows):
         if how == "behind":
             layers = [*layers, layer]
         elif how == "alone":
+            # Whatever stood there before, cleared or not, is gone.
             layers = [layer]
-        elif how == "cleared":
-            layers = []
     return layers
 
 

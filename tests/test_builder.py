@@ -69,6 +69,10 @@ class Builders(unittest.TestCase):
         self.assertTrue(condition == Condition.test(OWNER, "owner", "is", "a") | Condition.test(OWNER, "owner", "is",
                                                                                                 "b")
                         | Condition.test(OWNER, "owner", "is", "c d"))
+        things = ["a", "c d"]
+        other = builder({"ids": things})
+        things.append("e")
+        self.assertTrue(condition == other)
         many = Builder("for @ids\n  or owner is item\ntake", OWNER, {"ids": "list"})({"ids": ["a"] * 3000})
         self.assertTrue(many == Condition.test(OWNER, "owner", "is", "a"))
 

@@ -93,6 +93,8 @@ class Conducts(unittest.TestCase):
         self.assertEqual((tags.meets("owner"), tags.meets("maker")), (True, None))
         self.assertEqual((ids.meets("owner"), ids.meets("maker")), (None, False))
         self.assertEqual((tags.result(0, None), ids.result(0, True)), ((False, "through"), (None, "refuse")))
+        named = builder_of("or owner is 'ids'\ntake")
+        self.assertIsNone(conduct(named, {"owner": "a"}, "ids", ["a"]).meets("owner"))
         twice = builder_of("for @ids\n  or every\nfor @ids\n  break\ntake")
         found = conduct(twice, {"owner": "a"}, "ids", ["a"])
         self.assertEqual((found.result(0, False), found.result(1, False)), ((True, "through"), (False, "break")))

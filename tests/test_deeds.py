@@ -72,7 +72,8 @@ class Deeds(unittest.TestCase):
         for changes, name in [({"size": -1}, "size"), ({"size": True}, "size"), ({"size": "3"}, "size"),
                               ({"owner": 3}, "owner"),
                               ({"owner": "A"}, "owner"), ({"owner": None}, "owner"), ({"owner": "a b c"}, "owner"),
-                              ({"maker": "a"}, "maker"), ({"size": -1, "maker": "a", "owner": "x"}, "maker"),
+                              ({"maker": "a"}, "maker"), ({"maker": 3}, "maker"),
+                              ({"size": -1, "maker": "a", "owner": "x"}, "maker"),
                               ({"": "a"}, ""),
                               ({"owner": 1, "size": -1, "zz": 1}, "owner"), ({"owner": ["a"]}, "owner")]:
             with self.assertRaises(BadColumn) as caught:

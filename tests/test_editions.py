@@ -118,6 +118,9 @@ class OfMoves(unittest.TestCase):
         added = Edition(split, [Drop("b"), Add(Setting("c", "list")), Drop("a")])
         self.assertFalse(wrapped == added)
         self.assertFalse(plain == Edition(split, [Drop("a")]))
+        self.assertFalse(Edition(split, [Preset("a", "d")]) == Edition(split, [Preset("a", "e")]))
+        other = split.with_setting(Setting("a", "word", default="e"))
+        self.assertFalse(Edition(split, [Preset("a", "d")]) == Edition(other, [Preset("a", "d")]))
         for thing in (None, split, "a"):
             self.assertFalse(plain == thing)
 

@@ -163,10 +163,10 @@ class Moves(unittest.TestCase):
     def test_attributes_and_equality(self):
         setting = Setting("a", "word")
         groups = [[Rename("a", "b"), Rename("a", "b", kept=True)], [Rename("a", "b", kept=False)], [Rename("b", "a")],
-                  [Rename("a", "c")], [Drop("a"), Drop("a")], [Drop("b")], [Wrap("a"), Wrap("a")], [Wrap("b")],
+                  [Rename("a", "c")], [Rename("c", "b")], [Drop("a"), Drop("a")], [Drop("b")], [Wrap("a"), Wrap("a")], [Wrap("b")],
                   [Add(setting), Add(Setting("a", "word"))], [Add(Setting("b", "word"))],
                   [Preset("a", None), Preset("a", None)], [Preset("a", ("p",))], [Preset("b", None)],
-                  [Split("a", "b"), Split("a", "b")], [Split("b", "a")], [Split("a", "c")]]
+                  [Split("a", "b"), Split("a", "b")], [Split("b", "a")], [Split("a", "c")], [Split("c", "b")]]
         rows = [(at, move) for at, group in enumerate(groups) for move in group]
         for (one, first), (other, second) in itertools.product(rows, repeat=2):
             self.assertIs(first == second, one == other)

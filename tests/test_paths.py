@@ -174,6 +174,8 @@ class Parting(unittest.TestCase):
         elder = Schema([Setting("a", "word")])
         other = Schema([Setting("a", "number")])
         for first, second in [(chain([], elder=elder), chain([], elder=other)),
+                              (chain([Preset("a", "d")], elder=elder),
+                               chain([Preset("a", "d")], elder=Schema([Setting("a", "word", default="e")]))),
                               (chain([], elder=elder), chain([Wrap("a")], elder=elder))]:
             with self.assertRaises(BadPath) as caught:
                 parting_files(PLAIN, 1, first, second)
@@ -332,6 +334,13 @@ class StillFault(unittest.TestCase):
         elder = Schema([one], unknown="pass", wrong="lack", doubled="last")
         for default, wanted in [(("p",), True), (("q",), True)]:
             self.check(Edition(elder, [Rename("a", "b", kept=False), Wrap("b"), Preset("b", default)]), wanted)
+
+    def test_a_word_that_is_lost_beside_one_of_another_target(self):
+        parts = {"words": ("p",), "default": "p"}
+        elder = Schema([Setting("a", "choice", elders=("b", "o"), **parts)])
+        for elders, wanted in [((), True), (("o",), False)]:
+            later = Schema([Setting("a", "choice", **parts), Setting("b", "choice", elders=elders, **parts)])
+            self.check(Edition.direct(elder, later), wanted)
 
     def test_reused_words(self):
         elder = Schema([Setting("a", "word"), Setting("b", "number")])

@@ -187,6 +187,8 @@ class Kinds(unittest.TestCase):
                 (("x y", "y"), ("u v", "v"), True, True), (("x y", "y"), ("u v", "u"), True, False),
                 (("x a", "y"), ("z a", "w"), True, True), (("x a", "y"), ("a x", "y"), True, False)]:
             self.assertIs(same(one, other, False), plain)
+            rows = [dict(zip("kl", one)), dict(zip("kl", other))]
+            self.assertIs(same_kind(table, ["a", "b c"], [], *rows), plain)
             self.assertIs(same(one, other, True), pairs)
 
 

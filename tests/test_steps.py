@@ -121,6 +121,7 @@ class Texts(unittest.TestCase):
                 ("if every\n  not", 0),
                 ("if item is 'a'\n  not", 0), ("if owner is 'a'\n  not", 0), ("if 'a' is @w\n  not", 0),
                 ("if @w is @v\n  not", 0),
+                ("if @w below 3\n  not", 0), ("if @ids least 3\n  not", 0), ("if @ids is 3\n  not", 0),
                 ("if @w in @ids\n  not", 0), ("if size is 3\n  not", 0), ("for ids\n  not", 0), ("for @w\n  not", 0),
                 ("for @ids @ids\n  not", 0), ("for\n  not", 0), ("for @odd\n  not", 0), ("if blank\nnot", 1),
                 ("if blank", 1),
