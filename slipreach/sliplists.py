@@ -11,7 +11,7 @@ class ListPair:
     def __init__(self, sketch, before, after):
         self.first = sketch.first
         self.second = sketch.second
-        self.words = sketch.words
+        self.words = dict(sketch.words)
         self.head = sketch.head
         self.tail = sketch.tail
         self.unslipped = items_or_none(before, self.words, self.head, self.tail)
