@@ -24,6 +24,11 @@ def check_count(house, files):
         raise BadFiles(len(files))
 
 
+def copied_files(files):
+    """A copy of the files of all layers."""
+    return [None if file is None else list(file) for file in files]
+
+
 def read_all(house, files):
     """The entries of all files; None for a layer without a file. Raises BadFiles, Unreadable."""
     check_count(house, files)
