@@ -42,6 +42,22 @@ FUNCTIONS = {
     "house": ["stage(error)", "weight(house, files)"],
     "playing": ["parted(first, second)", "played(house, files, layer, slip)",
                 "fate_beside(house, files, layer, slip, row)", "place_of(house, files, layer, slip)"],
+    "beside": ["told_words(house, rule)", "told_numbers(house, rule)"],
+    "standings": ["start()", "steps(beside, name, layer, before, after, standing)",
+                  "table(beside, name, layer, before, after)", "table_fault(beside, name, layer, before, after, rows)"],
+    "finals": ["finals(beside, name, layer, before, after)"],
+    "fates": ["fates(house, rule)"],
+    "examples": ["example_fault(house, rule, place, fate, example)"],
+    "leastsets": ["subsets(things)", "least_good(things, good)", "good_sets(things, good)", "spoiled(things, good)",
+                  "turns(things, good)", "least_covers(sets)"],
+    "oldfiles": ["replay(house, other, files)", "lost(house, other, olds)", "kept_fault(house, other, olds)"],
+    "previews": ["silent_slips(house, rule, files, *, words=(), numbers=(), goal='any')",
+                 "least_previews(house, rule, files, *, words=(), numbers=(), goal='any')"],
+    "guards": ["fits(house, guard)", "guarded(house, guards)", "is_strict(house, guards)"],
+    "pairing": ["shown(first, second, files)"],
+    "alike": ["alike(first, second)", "parting_fault(first, second, parting)"],
+    "console": ["holding(console, step)"],
+    "pages": ["read_page(lines)", "page_of(table)"],
 }
 
 CLASSES = {
@@ -105,6 +121,31 @@ CLASSES = {
     "house.House": ["__init__(self, language, schema, builder, *, layers=1)", "run(self, files)"],
     "house.Plan": ["__getitem__(self, at)", "__contains__(self, x)"],
     "playing.Played": [],
+    "beside.Beside": ["__init__(self, house, rule, row)", "plain_value(self, name, value)", "letters(self, name)"],
+    "fates.Fates": ["places(self)", "of(self, place)", "example(self, place, fate)", "silent(self, goal)", "page(self)"],
+    "fates.Example": ["__init__(self, files, layer, slip, row)"],
+    "oldfiles.Replay": [],
+    "previews.Preview": ["__init__(self, house, *names)", "__iter__(self)", "__len__(self)", "__contains__(self, x)",
+                         "__eq__(self, other)", "__or__(self, other)", "__call__(self, plan)",
+                         "changed(self, first, second)", "unseen(self, slips)"],
+    "previews.SilentSlip": [],
+    "papers.Study": ["__init__(self, house, rule, pool, *, olds=(), goal='any')", "paper(self, guards)",
+                     "is_good(self, guards)", "least_sets(self)", "good_sets(self)", "spoiled(self)", "turns(self)"],
+    "papers.Paper": [],
+    "pairing.Pair": ["__init__(self, first, second)", "groups(self)"],
+    "pairing.Group": ["__contains__(self, x)"],
+    "pairing.Parting": ["__init__(self, difference, files, row, weight)"],
+    "joints.Joint": ["__init__(self, pair, group, row)", "letters(self)", "start(self)",
+                     "entered(self, standing, entry)", "raised(self, standing)", "standings(self)",
+                     "fault(self, rows)"],
+    "alike.Likeness": ["parting(self, difference)"],
+    "matrix.Matrix": ["__init__(self, houses)", "relation(self, name, other)", "likeness(self, name, other)",
+                      "classes(self)", "leads(self)", "broken(self, names)", "all_keeping(self)", "page(self)"],
+    "console.Console": ["__init__(self, house, rows, *, changes=None)", "__len__(self)", "__getitem__(self, at)",
+                        "__setitem__(self, at, worth)", "put(self, layer, file)", "show(self)", "listed(self)",
+                        "planned(self)", "do(self, *, most=None)", "undo(self)", "redo(self)", "history(self)",
+                        "try_file(self, layer, file)", "try_slip(self, layer, slip)"],
+    "console.Holding": ["__init__(self, console)", "__enter__(self)", "__exit__(self, kind, value, trace)"],
 }
 
 BASES = {"moves.Rename": "Move", "moves.Drop": "Move", "moves.Add": "Move", "moves.Preset": "Move",
@@ -140,11 +181,22 @@ class Interface(unittest.TestCase):
                  "editions.Edition.direct": classmethod, "paths.Path.whole": property,
                  "conditions.Condition.every": classmethod, "conditions.Condition.none": classmethod,
                  "conditions.Condition.test": classmethod, "conditions.Condition.blank": property,
-                 "house.Plan.settings": property}
+                 "house.Plan.settings": property, "alike.Likeness.keeps": property}
         for place, kind in kinds.items():
             name, word, method = place.split(".")
             owner = getattr(importlib.import_module(f"slipreach.{name}"), word)
             self.assertIsInstance(vars(owner)[method], kind)
+
+    def test_constants(self):
+        for place, wanted in {
+                "playing.FATES": ("reader", "schema", "joining", "builder", "same", "more", "less"),
+                "pairing.DIFFERENCES": ("first", "second", "more", "less")}.items():
+            name, _, word = place.partition(".")
+            self.assertEqual(getattr(importlib.import_module(f"slipreach.{name}"), word), wanted)
+
+    def test_generators(self):
+        subsets = importlib.import_module("slipreach.leastsets").subsets
+        self.assertTrue(inspect.isgeneratorfunction(subsets))
 
 
 if __name__ == "__main__":
