@@ -3,13 +3,12 @@
 from slipreach.conduct import Conduct
 from slipreach.courses import Course, RowSide
 from slipreach.errors import TooManyConducts
+from slipreach.steps import column_tests
 
 
 def met_columns(builder, name):
     """The columns with a test whether they are in a list, each once."""
-    tests = [step.told[2] for step in builder.steps if step.word in ("and", "or")]
-    found = [asked[0] for asked in tests if len(asked) > 1 and asked[1] == "in" and asked[3] == name]
-    return sorted(set(found))
+    return sorted(set([row[0] for row in column_tests(builder) if row[1] == "in" and row[3] == name]))
 
 
 def loops_over(builder, name):

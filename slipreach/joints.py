@@ -57,6 +57,8 @@ class Side:
         self.sight = sight
         self.schema = sight.house.schema
         self.names = names
+        # A house comes to know the same again and again, in all standings of the other house.
+        self.found = {}
 
     def view_of(self, word):
         """The setting that a word calls: a list of (sight, name), empty if it calls none."""
@@ -65,6 +67,12 @@ class Side:
 
     def entered(self, known, entry):
         """What the house knows behind an entry, or "refused"."""
+        if (known, entry) not in self.found:
+            self.found[(known, entry)] = self.known_behind(known, entry)
+        return self.found[(known, entry)]
+
+    def known_behind(self, known, entry):
+        """What entered tells."""
         name = self.schema.called(entry[0])
         if known == NO or (name is None and self.schema.unknown == "refuse"):
             return NO

@@ -11,8 +11,6 @@ from heapq import heappop, heappush
 from slipreach.layers import over
 from slipreach.standings import LACKING, REFUSED, cost_of, finished_plainly, met_plainly, plain_below
 
-FREE = ("any", "any")
-
 
 def spread(starts, ways):
     """A dict from each state that is reached to its least cost and the values on the way there.

@@ -46,7 +46,8 @@ def least_good(things, good):
 
 def good_sets(things, good):
     """All good sets."""
-    return [one for one in list(subsets(things)) if good(one)]
+    rows = list(subsets(things))
+    return [one for one in rows if good(one)]
 
 
 def goodness(things, good):

@@ -94,7 +94,8 @@ def silent_slips(house, rule, files, *, words=(), numbers=(), goal="any"):
     found = []
     for layer, file in enumerate(files):
         if file is not None:
-            for slip in list(rule.slips(file, words=words, numbers=numbers)):
+            slips = list(rule.slips(file, words=words, numbers=numbers))
+            for slip in slips:
                 found.extend(silent_in(house, files, plan, layer, slip))
     return [one for one in found if goal == "any" or one.more is not None]
 

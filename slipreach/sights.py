@@ -8,6 +8,7 @@ from slipreach.conducts import conduct
 from slipreach.errors import TooManyConducts
 from slipreach.rowkinds import fresh_words
 from slipreach.standings import cost_of
+from slipreach.steps import column_tests
 from slipreach.tokens import is_word
 from slipreach.working import holds
 
@@ -18,8 +19,7 @@ WRONG_NUMBER = 0
 
 def tests_with(builder, name):
     """The tests of columns with a setting: tuples (column, sign)."""
-    asked = [step.told[2] for step in builder.steps if step.word in ("and", "or")]
-    return [row[:2] for row in asked if len(row) == 4 and row[2] == "setting" and row[3] == name]
+    return [row[:2] for row in column_tests(builder) if row[2] == "setting" and row[3] == name]
 
 
 def questions_about(builder, name):
@@ -30,8 +30,7 @@ def questions_about(builder, name):
 
 def told_tests(builder):
     """The tests of columns with what is written: tuples (column, sign, word value or number)."""
-    asked = [step.told[2] for step in builder.steps if step.word in ("and", "or")]
-    return [(row[0], row[1], row[3]) for row in asked if len(row) == 4 and row[2] == "told"]
+    return [(row[0], row[1], row[3]) for row in column_tests(builder) if row[2] == "told"]
 
 
 def cost_of_values(values):

@@ -77,6 +77,12 @@ class BuilderText:
             yield line
 
 
+def column_tests(builder):
+    """The tests of columns in the lines: tuples (column, sign, source, thing)."""
+    asked = [step.told[2] for step in builder.steps if step.word in ("and", "or")]
+    return [row for row in asked if len(row) == 4]
+
+
 def written_words(builder):
     """The words and pairs in quotes, ascending."""
     return tuple(builder.written[0])

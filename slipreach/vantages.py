@@ -4,21 +4,20 @@ from slipreach.beside import choice_words, default_words, look_tokens, told_numb
 from slipreach.gaps import kind_numbers, number_spots
 from slipreach.rowkinds import cut, fresh_words, lengths_of, word_rows
 from slipreach.schema import all_words
-from slipreach.steps import written_words
+from slipreach.steps import column_tests, written_words
 from slipreach.symbols import value_symbols
 from slipreach.templates import names_of
 from slipreach.tokens import is_word
 
 
-def column_tests(builder, column):
-    """The tests of a column: tuples (source, thing)."""
-    asked = [step.told[2] for step in builder.steps if step.word in ("and", "or")]
-    return [row[2:] for row in asked if len(row) == 4 and row[0] == column]
+def compared(house, column):
+    """All that a column is compared with: tuples (source, thing)."""
+    return [row[2:] for row in column_tests(house.builder) if row[0] == column]
 
 
 def is_open(house, column):
     """Whether a column of words is compared with words of any kind."""
-    for source, thing in column_tests(house.builder, column):
+    for source, thing in compared(house, column):
         if source == "item" or (source == "setting" and house.schema.setting(thing).kind != "choice"):
             return True
     return False
@@ -80,7 +79,7 @@ def weighty_words(house, rule, shapes):
 def closed_words(house, column):
     """The words with which a column is compared, and one other, if it is compared with told ones alone."""
     words = []
-    for source, thing in column_tests(house.builder, column):
+    for source, thing in compared(house, column):
         words.extend(house.schema.setting(thing).words if source == "setting" else [thing])
     words = sorted(set(words))
     return [*words, *fresh_words(words, 1)]
@@ -88,7 +87,7 @@ def closed_words(house, column):
 
 def number_values(house, rule, column):
     """The numbers that matter in a column."""
-    tests = column_tests(house.builder, column)
+    tests = compared(house, column)
     if not tests:
         return [0]
     if any([source == "setting" for source, _ in tests]):
@@ -100,7 +99,7 @@ def with_place(rows, known, fresh):
     """Rows of words, each with one word more: a known one, one of its own, or a new one."""
     longer = []
     for row in rows:
-        own = [word for word in row if word not in known]
+        own = [word for word in row if word not in known and is_word(word)]
         new = [word for word in fresh if word not in row][:1]
         longer.extend([(*row, word) for word in list({word: True for word in [*known, *own, *new]})])
     return longer
