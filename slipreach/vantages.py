@@ -2,7 +2,7 @@
 
 from slipreach.beside import choice_words, default_words, look_tokens, told_numbers
 from slipreach.gaps import kind_numbers, number_spots
-from slipreach.rowkinds import cut, fresh_words, lengths_of, word_rows
+from slipreach.rowkinds import cut, each_word, fresh_words, lengths_of, word_rows
 from slipreach.schema import all_words
 from slipreach.steps import column_tests, written_words
 from slipreach.symbols import value_symbols
@@ -125,7 +125,8 @@ def vantages(house, rule, shapes):
     words = weighty_words(house, rule, shapes)
     values = word_rows(len(opened), words, False)
     if house.language.comma == "joins":
-        values = opened_rows(len(opened), words, paired_words(house, rule, shapes))
+        # A slip may make a pair of a word, so the words of a pair matter by themselves, too.
+        values = opened_rows(len(opened), each_word(words), paired_words(house, rule, shapes))
     rows = [dict(zip(opened, row)) for row in values]
     for column in [one for one in table.columns if one not in opened]:
         if column in table.numbers:
