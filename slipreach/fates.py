@@ -29,6 +29,18 @@ def place_rank(house, place):
     return (KINDS.index(kind), layer, ROLES.index(role), names.index(name))
 
 
+def is_goal(thing):
+    """Whether any object is one of the goals."""
+    return isinstance(thing, str) and thing in GOALS
+
+
+def example_of(survey, rule, place, fate):
+    """The Example of a place and a fate that a survey has found."""
+    find = survey.found[(place, fate)]
+    files, slip = shown_files(survey.house, rule, find.showing())
+    return Example(files, find.layer, slip, find.sight.row)
+
+
 class Fates:
     """The places of all slips of a rule in all files that a house takes, and their fates."""
 
@@ -49,15 +61,11 @@ class Fates:
 
     def example(self, place, fate):
         """An Example of least weight, or None if the place does not have the fate."""
-        if (place, fate) not in self.survey.found:
-            return None
-        find = self.survey.found[(place, fate)]
-        files, slip = shown_files(self.house, self.rule, find.showing())
-        return Example(files, find.layer, slip, find.sight.row)
+        return example_of(self.survey, self.rule, place, fate) if (place, fate) in self.survey.found else None
 
     def silent(self, goal):
         """The places with a silent fate that counts for a goal. Raises BadGoal(goal)."""
-        if not isinstance(goal, str) or goal not in GOALS:
+        if not is_goal(goal):
             raise BadGoal(goal)
         return [place for place in self.order if any([fate in GOALS[goal] for fate in self.of(place)])]
 
@@ -72,9 +80,28 @@ def page_line(place, found):
     return f"{kind:<8}{layer:<2}{role:<8}{name:<13}{', '.join(found)}"
 
 
-def fates(house, rule):
-    """The Fates of a house and a rule. Raises FarReach(file, slip), then TooManyConducts(60)."""
+def survey_of(house, rule):
+    """A survey in which nothing is found yet. Raises FarReach(file, slip), then TooManyConducts(60)."""
     found = reach(house.language, rule)
     if found.word == "far":
         raise FarReach(found.file, found.slip)
-    return Fates(house, rule, Survey(house, rule, found.shapes))
+    return Survey(house, rule, found.shapes)
+
+
+def fates(house, rule):
+    """The Fates of a house and a rule. Raises FarReach(file, slip), then TooManyConducts(60)."""
+    survey = survey_of(house, rule)
+    survey.look_all()
+    return Fates(house, rule, survey)
+
+
+def silent_example(house, rule, goal):
+    """An Example of a silent fate that counts for a goal, or None. Raises BadGoal, and as fates."""
+    if not is_goal(goal):
+        raise BadGoal(goal)
+    survey = survey_of(house, rule)
+    survey.look_for(GOALS[goal])
+    for place, fate in survey.found:
+        if fate in GOALS[goal]:
+            return example_of(survey, rule, place, fate)
+    return None

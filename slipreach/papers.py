@@ -1,7 +1,7 @@
 """Papers: whether some guards are good for a house, and what shows that they are not."""
 
 from slipreach.errors import BadGuard, BadOld
-from slipreach.fates import GOALS, fates
+from slipreach.fates import silent_example
 from slipreach.guards import fits, guarded
 from slipreach.house import copied_files
 from slipreach.leastsets import good_sets, least_good, spoiled, turns
@@ -44,12 +44,8 @@ def paper_of(house, rule, olds, goal, guards):
     far = reach(strict.language, rule)
     if far.word == "far":
         return Paper("far", file=far.file, slip=far.slip)
-    found = fates(strict, rule)
-    for place in found.silent(goal):
-        for fate in GOALS[goal]:
-            if fate in found.of(place):
-                return Paper("silent", example=found.example(place, fate))
-    return Paper("good")
+    example = silent_example(strict, rule, goal)
+    return Paper("good") if example is None else Paper("silent", example=example)
 
 
 class Study:

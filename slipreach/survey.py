@@ -54,26 +54,42 @@ class Find:
 
 
 class Survey:
-    """All that has been found: a dict from (place, fate) to a Find."""
+    """All that has been found: a dict from (place, fate) to a Find. Raises TooManyConducts(60)."""
 
     def __init__(self, house, rule, shapes):
         self.house = house
-        self.rule = rule
         self.found = {}
         self.models = {}
         self.lanes = {}
         self.verdicts = {}
         self.known_effects = {}
         self.templates = templates_of(house, shapes)
-        words = told_words(house, rule)
-        numbers = told_numbers(house, rule)
-        seen = set()
-        for row in vantages(house, rule, shapes):
-            sight = sight_of(house, words, numbers, row)
+        self.sights = self.settled_sights(rule, vantages(house, rule, shapes))
+
+    def settled_sights(self, rule, rows):
+        """The sights beside those of some rows whose profiles differ: tuples (sight, profile)."""
+        words = told_words(self.house, rule)
+        numbers = told_numbers(self.house, rule)
+        found = {}
+        for row in rows:
+            sight = sight_of(self.house, words, numbers, row)
             profile = (word_profile(sight, rule), number_profile(sight, rule), rest_profile(sight))
-            if profile not in seen:
-                self.look(sight, profile, len(seen) == 0)
-                seen.add(profile)
+            if profile not in found:
+                sight.settle(self.models)
+                found[profile] = sight
+        return [(found[profile], profile) for profile in found]
+
+    def look_all(self):
+        """Finds all places and fates."""
+        for number, (sight, profile) in enumerate(self.sights):
+            self.look(sight, profile, number == 0)
+
+    def look_for(self, wanted):
+        """Finds places with some fates beside a row, if there are any, but perhaps not all of them."""
+        for sight, profile in self.sights:
+            self.look(sight, profile, False)
+            if any([fate in wanted for _, fate in self.found]):
+                return
 
     def lane(self, sight, name):
         """The lane of a setting; rows beside which it has the same sorts of values share it."""
@@ -105,7 +121,6 @@ class Survey:
 
     def look(self, sight, profile, is_first):
         """Takes what can be seen beside one more row."""
-        sight.settle(self.models)
         verdicts = self.verdicts_of(sight)
         for index, (template, places) in enumerate(self.templates):
             if is_first or template.status == READ:

@@ -136,6 +136,11 @@ class Standings(unittest.TestCase):
             (0, (), ()): 0, (1, (), ()): 0, ("end", (), ()): 0, (0, "refused", ()): 1, (1, "refused", ()): 1,
             ("end", "refused", ()): 1})
 
+    def test_long_lists(self):
+        joint = joint_of(standard(), standard(doubled="last"), "rows")
+        long = joint.entered(joint.start(), ("rows", tuple(["zz"] * 4000 + ["b"])))
+        self.assertEqual(long, joint.entered(joint.start(), ("rows", ("b",))))
+
     def test_letters(self):
         for seed in range(60):
             joint = some_joint(random.Random(seed))

@@ -27,10 +27,11 @@ def all_kinds(house, rule, shapes):
 def weights(house, rule, shapes):
     """The weight of each fate at each place, or "many"."""
     try:
-        found = survey.Survey(house, rule, shapes).found
+        looked = survey.Survey(house, rule, shapes)
     except TooManyConducts:
         return "many"
-    return {key: found[key].weight for key in found}
+    looked.look_all()
+    return {key: looked.found[key].weight for key in looked.found}
 
 
 class Vantages(unittest.TestCase):
